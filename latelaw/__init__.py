@@ -1,0 +1,1 @@
+"""Latelaw: works in which each event waits for the latest of others."""
