@@ -15,6 +15,12 @@ def fraction(top, low):
     return (top // divisor, low // divisor)
 
 
+def is_fraction(pair):
+    """Return True if a tuple of two integers is a fraction in lowest terms."""
+    top, low = pair
+    return low >= 1 and gcd(top, low) == 1
+
+
 def plus(first, second):
     """Return the sum of two moments, None if one of them is None."""
     if first is None or second is None:
@@ -60,6 +66,15 @@ def latest(moments):
     found = None
     for moment in moments:
         found = later(found, moment)
+    return found
+
+
+def earliest(moments):
+    """Return the least one of a list of moments, which must not be empty."""
+    found = moments[0]
+    for moment in moments:
+        if is_less(moment, found):
+            found = moment
     return found
 
 

@@ -1,9 +1,7 @@
 """Works: which event waits for which one, and for how long."""
 
-from math import gcd
-
 from latelaw.errors import BadWork, OutOfRange
-from latelaw.moments import later_vector, latest, plus
+from latelaw.moments import is_fraction, later_vector, latest, plus
 
 MOST_EVENTS = 12
 GREATEST_PART = 1000000
@@ -24,9 +22,7 @@ def check_work(work):
 
 def _is_valid_fraction(moment):
     top, low = moment
-    if low < 1 or low > GREATEST_PART or abs(top) > GREATEST_PART:
-        return False
-    return gcd(top, low) == 1
+    return abs(top) <= GREATEST_PART and low <= GREATEST_PART and is_fraction(moment)
 
 
 def next_round(work, vector):

@@ -63,12 +63,63 @@ def walks(work, length):
     return found
 
 
+def short_walks(work):
+    """All walks of a length below the number of events."""
+    found = [[event] for event in range(len(work))]
+    last = found
+    for _ in work[1:]:
+        last = [walk + [i] for walk in last for i in range(len(work)) if work[i][walk[-1]] is not None]
+        found = found + last
+    return found
+
+
+def slow_time(work, walk):
+    return sum((value_of(work[i][j]) for j, i in zip(walk, walk[1:])), Fraction(0))
+
+
+def slow_mean(work, circuit):
+    return slow_time(work, circuit) / (len(circuit) - 1)
+
+
+def all_circuits(work):
+    """All circuits in normal form, found as short walks that can be closed."""
+    return [
+        walk + [walk[0]] for walk in short_walks(work)
+        if walk[0] == min(walk) and len(set(walk)) == len(walk) and work[walk[0]][walk[-1]] is not None
+    ]
+
+
+def slow_rates(work):
+    """The rates as Fractions or None, from all circuits and all short walks."""
+    circuits = all_circuits(work)
+    reached = {(walk[0], walk[-1]) for walk in short_walks(work)}
+    return [
+        max((slow_mean(work, one) for one in circuits if (one[0], event) in reached), default=None)
+        for event in range(len(work))
+    ]
+
+
+def ring(size, moment):
+    """A work in which each event waits for the one before it, and event 0 for the last one."""
+    return [[moment if j == (i - 1) % size else None for j in range(size)] for i in range(size)]
+
+
+def beside(*works):
+    """The work of several works that do not wait for each other."""
+    size = sum(len(work) for work in works)
+    found = []
+    for work in works:
+        left = [None] * len(found)
+        found.extend(left + row + [None] * (size - len(left) - len(row)) for row in copy.deepcopy(list(work)))
+    return found
+
+
 def greatest_times(work, length):
     """The greatest time of the walks of a length for each pair of events, at [to][from]."""
     size = len(work)
     found = [[None] * size for _ in range(size)]
     for walk in walks(work, length):
-        time = sum((value_of(work[i][j]) for j, i in zip(walk, walk[1:])), Fraction(0))
+        time = slow_time(work, walk)
         best = found[walk[-1]][walk[0]]
         if best is None or time > best:
             found[walk[-1]][walk[0]] = time

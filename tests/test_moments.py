@@ -7,7 +7,7 @@ from itertools import permutations
 
 from latelaw import moments
 from latelaw.errors import OutOfRange
-from latelaw.moments import at_most, fraction, is_less, later, later_vector, latest
+from latelaw.moments import at_most, earliest, fraction, is_fraction, is_less, later, later_vector, latest
 from latelaw.moments import minus, over, plus, times
 from tests.helpers import check_call, check_plain, check_refused, pair, sample_fractions, value_of, whole
 
@@ -117,6 +117,24 @@ class Order(unittest.TestCase):
             self.assertEqual(check_call(self, latest, list(order)), (-3, 1))
         for order in permutations([(1, 2), (2, 3), (3, 5), (2, 3)]):
             self.assertEqual(latest(list(order)), (2, 3))
+
+
+class Helpers(unittest.TestCase):
+    """What the modules share beyond the interface."""
+
+    def test_is_fraction(self):
+        for good in ((0, 1), (1, 1), (-1, 1), (3, 2), (-3, 2), (HUGE + 1, HUGE)):
+            self.assertIs(check_call(self, is_fraction, good), True, good)
+        for bad in ((0, 2), (2, 2), (4, 6), (-4, 6), (1, 0), (0, 0), (0, -1), (1, -1), (3, -2), (-3, -2), (HUGE, HUGE)):
+            self.assertIs(check_call(self, is_fraction, bad), False, bad)
+
+    def test_earliest(self):
+        self.assertEqual(check_call(self, earliest, [(1, 2)]), (1, 2))
+        self.assertIsNone(check_call(self, earliest, [None]))
+        for order in permutations([(2, 3), (1, 2), (-1, 3), (-1, 2)]):
+            self.assertEqual(earliest(list(order)), (-1, 2))
+        for order in permutations([(2, 3), None, (-100, 1), None]):
+            self.assertIsNone(earliest(list(order)))
 
 
 class Vectors(unittest.TestCase):

@@ -8,7 +8,7 @@ from latelaw.errors import BadWork, OutOfRange
 from latelaw.works import check_work, classes, idle, is_active, is_circuit, later_work, next_round
 from latelaw.works import power, product, reached_from, round_after, walk_time
 from tests.helpers import Samples, check_call, check_plain, check_refused, greatest_times, pair
-from tests.helpers import value_of, walks, whole
+from tests.helpers import ring, slow_time, value_of, walks, whole
 
 # Event 0 and event 1 wait for each other, event 2 waits for event 1 and for itself, event 3 waits for nobody,
 # and event 4 waits for event 3.
@@ -19,11 +19,6 @@ FIVE = [
     whole(None, None, None, None, None),
     [None, None, None, (1, 2), None],
 ]
-
-
-def ring(size, moment):
-    """A work in which each event waits for the one before it, and event 0 for the last one."""
-    return [[moment if j == (i - 1) % size else None for j in range(size)] for i in range(size)]
 
 
 def slow_round(work, vector):
@@ -269,7 +264,7 @@ class Walks(unittest.TestCase):
                     self.assertEqual(time is not None, walk in found, walk)
                     if walk in found:
                         check_plain(self, time)
-                        self.assertEqual(value_of(time), sum(value_of(work[i][j]) for j, i in zip(walk, walk[1:])))
+                        self.assertEqual(value_of(time), slow_time(work, walk))
 
 
 class Circuits(unittest.TestCase):
