@@ -92,7 +92,7 @@ def _circuits(work, rates, targets):
     """Return for each event its circuit in the computed rate paper."""
     found = [None for _ in work]
     for first in range(len(work)):
-        circuit = _least_circuit(targets, first)
+        circuit = least_circuit(targets, first)
         if circuit is not None:
             for event in reached_from(work, first):
                 # Of equally short circuits the one that is found first begins with the least event.
@@ -101,8 +101,11 @@ def _circuits(work, rates, targets):
     return found
 
 
-def _least_circuit(targets, first):
-    """Return the least one of the shortest circuits whose least event is the first one, or None."""
+def least_circuit(targets, first):
+    """Return the least one of the shortest circuits whose least event is the first one, or None.
+
+    targets has for each event the ascending list of the events to which a step leads.
+    """
     walks = [[first]]
     met = {first: True}
     at = 0

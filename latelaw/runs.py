@@ -1,9 +1,8 @@
 """Runs: from which step they repeat themselves, and with which period."""
 
-from math import lcm
-
 from latelaw.errors import OutOfRange, TooLong
 from latelaw.rates import all_rates
+from latelaw.whole import arms_of, common_part, whole_numbers
 
 MOST_STEPS = 2000
 
@@ -41,13 +40,13 @@ class Run:
     def __init__(self, work, vector):
         rates = all_rates(work)
         # All fractions are taken as whole numbers of one part, as sums of these are much quicker.
-        part = _common_part(work + [vector, rates])
-        self.rates = _whole_numbers(rates, part)
-        self.arms = [_arms(_whole_numbers(row, part)) for row in work]
+        part = common_part(work + [vector, rates])
+        self.rates = whole_numbers(rates, part)
+        self.arms = [arms_of(whole_numbers(row, part)) for row in work]
         self.near = [
             [(j, time) for j, time in arms if rates[j] == rate] for arms, rate in zip(self.arms, rates)
         ]
-        self.vector = _whole_numbers(vector, part)
+        self.vector = whole_numbers(vector, part)
         self.offsets = [self.offset(0)]
         self.settled = []
 
@@ -94,25 +93,6 @@ class Run:
         while start > 0 and self.settled[start - 1] and self.offsets[start - 1] == self.offsets[start - 1 + period]:
             start -= 1
         return start
-
-
-def _common_part(rows):
-    """Return a number whose parts of 1 make up all the moments of some lists."""
-    part = 1
-    for row in rows:
-        for moment in row:
-            if moment is not None:
-                part = lcm(part, moment[1])
-    return part
-
-
-def _whole_numbers(moments, part):
-    return [None if moment is None else moment[0] * (part // moment[1]) for moment in moments]
-
-
-def _arms(row):
-    """Return the events for which an event waits, each with the time."""
-    return [(j, time) for j, time in enumerate(row) if time is not None]
 
 
 def _latest_sums(rows, vector):

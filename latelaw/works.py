@@ -1,7 +1,7 @@
 """Works: which event waits for which one, and for how long."""
 
 from latelaw.errors import BadWork, OutOfRange
-from latelaw.moments import is_fraction, later_vector, latest, plus
+from latelaw.moments import is_fraction, later_vector, latest, minus, plus
 
 MOST_EVENTS = 12
 GREATEST_PART = 1000000
@@ -23,6 +23,11 @@ def check_work(work):
 def _is_valid_fraction(moment):
     top, low = moment
     return abs(top) <= GREATEST_PART and low <= GREATEST_PART and is_fraction(moment)
+
+
+def has_empty_row(work):
+    """Return True if an event of the work waits for no event."""
+    return any(latest(row) is None for row in work)
 
 
 def next_round(work, vector):
@@ -67,6 +72,12 @@ def later_work(first, second):
 def _check_same_size(first, second):
     if len(first) != len(second):
         raise OutOfRange("the works have different sizes")
+
+
+def lessened(work, amount):
+    """Return the work with a fraction subtracted from each of its moments."""
+    lessening = minus((0, 1), amount)
+    return [[plus(moment, lessening) for moment in row] for row in work]
 
 
 def idle(size):

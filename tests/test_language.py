@@ -154,6 +154,35 @@ class Code(unittest.TestCase):
                 self.assertNotIn(word, BARRED, name)
                 self.assertRegex(word, r"^(_|_?[A-Za-z][A-Za-z0-9_]*|__[a-z]+__)$", name)
 
+    def test_local_names(self):
+        for name, tree in TREES.items():
+            outer = {alias.asname or alias.name for node in tree.body if isinstance(node, ast.ImportFrom)
+                     for alias in node.names}
+            outer |= {node.name for node in tree.body if isinstance(node, ast.ClassDef)}
+            for node in ast.walk(tree):
+                if isinstance(node, ast.arg):
+                    self.assertNotIn(node.arg, outer, name)
+                if isinstance(node, ast.Name) and isinstance(node.ctx, ast.Store):
+                    self.assertNotIn(node.id, outer, name)
+
+    def test_names_that_are_left_out_are_not_read(self):
+        for name, node in nodes(ast.Name):
+            if node.id == "_":
+                self.assertIsInstance(node.ctx, ast.Store, name)
+
+    def test_methods_and_attributes_of_one_class_have_different_names(self):
+        for name, node in nodes(ast.ClassDef):
+            methods = [found.name for found in node.body if isinstance(found, ast.FunctionDef)]
+            self.assertEqual(len(methods), len(set(methods)), (name, node.name))
+            for found in ast.walk(node):
+                if isinstance(found, ast.Attribute) and isinstance(found.ctx, ast.Store):
+                    self.assertNotIn(found.attr, methods, (name, node.name))
+
+    def test_strings(self):
+        for name, node in nodes(ast.Constant):
+            if isinstance(node.value, str):
+                self.assertIsNone(re.search(r"%|^__.*__$|\._$|\.__$", node.value), (name, node.value))
+
     def test_words(self):
         pattern = re.compile(r"\b(typing|typing_extensions|enum|Enum|IntEnum|StrEnum|Flag|IntFlag|Generic|Protocol|ABC"
                              r"|ABCMeta|namedtuple|NamedTuple|TypedDict|TYPE_CHECKING|abstractmethod)\b"
